@@ -1,0 +1,1 @@
+"""Layersplit: trials on guests, in layers that are free of one another."""
