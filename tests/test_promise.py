@@ -205,16 +205,15 @@ class Promise(unittest.TestCase):
         return answer
 
     # One deed to the house and to the plain one, with the promise behind it.
-    def check_deed(self, house, plain, deed, facts, stood, full):
+    def check_deed(self, house, plain, deed, facts, stood):
         before = inside(house)
         guest = deed[1] if type(deed) is tuple and deed[:1] == ("visit",) and len(deed) == 3 else None
         ever = house.ever(guest) if guest in GUESTS else []
         answer = self.told(house, deed)
         self.assertEqual(answer, plain.do(deed), deed)
-        refused = type(answer) is not list
-        now = everything(house, GUESTS, MARKS) if full or refused else None
-        if refused:
-            self.assertTrue(stood is None or now == stood, deed)
+        now = everything(house, GUESTS, MARKS)
+        if type(answer) is not list:
+            self.assertEqual(now, stood, deed)
             return answer, now
         after = inside(house)
         last = dict(facts["last"])
@@ -222,14 +221,12 @@ class Promise(unittest.TestCase):
         self.note(facts, deed, shares)
         self.check_out(deed, before, after, last, shares, arms_told(house))
         self.check_in(deed, before, after, ever, house, facts)
-        if full:
-            self.check_places(house, facts["last"])
-            self.assertEqual(now, everything(plain, GUESTS, MARKS), deed)
+        self.check_places(house, facts["last"])
+        self.assertEqual(now, everything(plain, GUESTS, MARKS), deed)
         return answer, now
 
-    # A row of drawn deeds; all questions are asked behind each of them, or behind each
-    # so many.
-    def check_row(self, number, prime, salt, each=1, many=LONGEST):
+    # A row of drawn deeds, with all questions asked behind each of them.
+    def check_row(self, number, prime, salt, many=LONGEST):
         drawer = Drawer(number, prime)
         house = House(prime, salt)
         plain = PlainHouse(prime, salt)
@@ -238,10 +235,10 @@ class Promise(unittest.TestCase):
         answers = []
         stood = everything(house, GUESTS, MARKS)
         snapshots = [stood]
-        for turn in range(many):
+        for _ in range(many):
             deed = drawer.deed(plain)
             deeds.append(deed)
-            answer, now = self.check_deed(house, plain, deed, facts, stood, turn % each == 0)
+            answer, now = self.check_deed(house, plain, deed, facts, stood)
             if type(answer) is list:
                 stood = now
                 answers.append(answer)
@@ -256,8 +253,7 @@ class Promise(unittest.TestCase):
         again = House(house.prime(), house.salt())
         for k, deed in enumerate(book):
             self.assertEqual(again.do(deed), answers[k])
-            if snapshots[k + 1] is not None:
-                self.assertEqual(everything(again, GUESTS, MARKS), snapshots[k + 1])
+            self.assertEqual(everything(again, GUESTS, MARKS), snapshots[k + 1])
         self.assertEqual(everything(again, GUESTS, MARKS), everything(house, GUESTS, MARKS))
         made = house_of(house.prime(), house.salt(), book)
         self.assertEqual(everything(made, GUESTS, MARKS), everything(house, GUESTS, MARKS))
@@ -273,10 +269,10 @@ class Promise(unittest.TestCase):
 
     def test_greater_primes(self):
         for number, prime in ((100, 31), (101, 53), (102, 101)):
-            self.check_row(number, prime, 7 ** number % BIG, 4)
+            self.check_row(number, prime, 7 ** number % BIG)
 
     def test_greatest_prime(self):
-        self.check_row(200, 997, BIG - 1, 30)
+        self.check_row(200, 997, BIG - 1)
 
     # The rows hold what the promise speaks of: else the tests above would tell little.
     def test_what_is_drawn(self):
