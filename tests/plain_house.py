@@ -1,12 +1,13 @@
-"""A plain reckoning of points 13 to 16 that tests keep beside the house, and what they share."""
+"""A plain reckoning of points 13 to 21 that tests keep beside the program, and what they share."""
 
 import copy
+import itertools
 import re
 import unittest
 from fractions import Fraction
 
 from layersplit.errors import (
-    Closed, NoArms, NoDeed, NoMarks, NoNumber, NoRoom, NoRule, NoShuts, NoWord, SplitError, Taken, Unknown,
+    Closed, NoArms, NoDeed, NoMarks, NoNumber, NoRoom, NoRow, NoRule, NoShuts, NoWord, SplitError, Taken, Unknown,
 )
 from layersplit.house import House
 
@@ -394,6 +395,282 @@ def everything(house, guests, some_marks):
     for guest in guests:
         told.append((house.stand(guest), house.ever(guest), [house.would(guest, marks) for marks in some_marks]))
     return told
+
+
+# How many of all points of the house lie in each of these arms (trial, arm), one by one.
+def plain_points(house, *arms):
+    p = house.prime()
+    slopes = dict(house.layers())
+    asked = [(slopes[house.layer_of(trial)], house.places(trial, arm)) for trial, arm in arms]
+    found = 0
+    for x in range(p):
+        for y in range(p):
+            found += all((y if slope == p else (x + slope * y) % p) in places for slope, places in asked)
+    return found
+
+
+def plain_list(things):
+    return ",".join(str(thing) for thing in things) or "-"
+
+
+def plain_marks(marks):
+    return plain_list(word + "=" + str(number) for word, number in marks)
+
+
+def plain_rule(rule):
+    match rule:
+        case ("any",):
+            return "any"
+        case ("has", word):
+            return "has " + word
+        case ("least", word, number):
+            return "least " + word + " " + str(number)
+        case ("not", inner):
+            return "not " + plain_rule(inner)
+        case ("both" | "either", first, second):
+            return rule[0] + " " + plain_rule(first) + " " + plain_rule(second)
+    raise ValueError(rule)
+
+
+def plain_row(deed):
+    match deed:
+        case ("trial", name, layer, arms, rule, shuts):
+            return f"trial {name} {layer} {plain_list(arms)} {plain_list(shuts)} {plain_rule(rule)}"
+        case ("share", trial, numbers):
+            return f"share {trial} {plain_list(numbers)}"
+        case ("deal", trial, total, weights):
+            return f"deal {trial} {total} {plain_list(weights)}"
+        case ("visit", guest, marks):
+            return f"visit {guest} {plain_marks(marks)}"
+        case ("layer" | "hold" | "bar", first, second):
+            return f"{deed[0]} {first} {second}"
+        case ("pause" | "go" | "close", trial):
+            return f"{deed[0]} {trial}"
+    raise ValueError(deed)
+
+
+def plain_text(house):
+    return "\n".join([f"house {house.prime()} {house.salt()}"] + [plain_row(deed) for deed in house.book()])
+
+
+def listed(form, least, most):
+    many = f"{form}(?:,{form}){{0,{most - 1}}}"
+    return f"(?:-|{many})" if least == 0 else many
+
+
+WORD = "[a-z]{1,12}"
+GUEST = "[a-z0-9]{1,24}"
+COUNT = "(?:0|[1-9][0-9]{0,59})"
+NUMBER = "(?:0|-?[1-9][0-9]{0,59})"
+RULE = "[a-z0-9 -]+"
+# The forms of a row's things, by what the things are.
+FORMS = {
+    "new_layer": WORD, "new_trial": WORD, "layer": WORD, "trial": WORD, "arm": WORD, "guest": GUEST, "slope": COUNT,
+    "number": COUNT, "place": COUNT, "total": COUNT, "arms": listed(WORD, 1, 4), "shuts": listed(WORD, 0, 8),
+    "numbers": listed(COUNT, 1, 4), "weights": listed(COUNT, 1, 4), "marks": listed(f"{WORD}={NUMBER}", 0, 8),
+    "rule": RULE,
+}
+ASKED = {
+    "place": ("layer", "guest"), "owner": ("layer", "place"), "places": ("trial", "arm"), "shares": ("trial",),
+    "stand": ("guest",), "ever": ("guest",), "would": ("guest", "marks"), "who": ("trial",),
+    "points": ("trial", "arm"), "meet": ("trial", "arm", "trial", "arm"), "example": ("rule",), "text": (),
+}
+
+
+# The rule that a text writes, or None: what is begun waits in a pile until it is whole.
+def plain_read_rule(text):
+    words = text.split(" ")
+    pile = []
+    while words:
+        kind = words.pop(0)
+        part = None
+        if kind == "any":
+            part = (kind,)
+        elif kind == "has" and len(words) >= 1:
+            part = (kind, words.pop(0))
+        elif kind == "least" and len(words) >= 2 and re.fullmatch(NUMBER, words[1]):
+            part = (kind, words.pop(0), int(words.pop(0)))
+        elif kind not in ("not", "both", "either"):
+            return None
+        else:
+            pile.append([kind])
+            continue
+        while pile:
+            pile[-1].append(part)
+            if len(pile[-1]) < {"not": 2, "both": 3, "either": 3}[pile[-1][0]]:
+                break
+            part = tuple(pile.pop())
+        else:
+            return part if not words and is_rule(part) else None
+    return None
+
+
+# The thing that a text of its form writes; None where it is none for all that.
+def plain_thing(kind, text):
+    parts = [] if text == "-" else text.split(",")
+    if kind in ("slope", "number", "place"):
+        return int(text)
+    if kind == "total":
+        return int(text) if int(text) <= 1000 else None
+    if kind == "numbers":
+        return tuple(int(part) for part in parts)
+    if kind == "weights":
+        return tuple(int(part) for part in parts) if all(1 <= int(part) <= BIG for part in parts) else None
+    if kind in ("arms", "shuts"):
+        return tuple(parts) if len(set(parts)) == len(parts) else None
+    if kind == "marks":
+        marks = tuple((part.split("=")[0], int(part.split("=")[1])) for part in parts)
+        return marks if are_marks(marks) else None
+    return plain_read_rule(text) if kind == "rule" else text
+
+
+# The things of a row with this first word, or None.
+def plain_things(first, kinds, row):
+    found = re.fullmatch(" ".join([first] + [f"({FORMS[kind]})" for kind in kinds]), row)
+    if found is None:
+        return None
+    things = [plain_thing(kind, text) for kind, text in zip(kinds, found.groups())]
+    return None if None in things else tuple(things)
+
+
+# The deed that a row writes, or None.
+def plain_read(row):
+    for first, kinds in THINGS.items():
+        if first == "trial":
+            kinds = ("new_trial", "layer", "arms", "shuts", "rule")
+        things = plain_things(first, kinds, row)
+        if things is not None:
+            return (first,) + (things[:3] + (things[4], things[3]) if first == "trial" else things)
+    return None
+
+
+def plain_tuples(tuples, empty):
+    return " ".join("/".join(one) for one in tuples) or empty
+
+
+# What a question is refused with, or None, by the things that it is asked by.
+def plain_refusal(house, kinds, things):
+    arms = arms_told(house)
+    trial = None
+    for kind, thing in zip(kinds, things):
+        if kind == "layer" and thing not in dict(house.layers()):
+            return Unknown
+        if kind == "trial" and thing not in arms:
+            return Unknown
+        if kind == "arm" and thing not in arms[trial]:
+            return Unknown
+        if kind == "place" and thing >= house.prime():
+            return NoNumber
+        trial = thing if kind == "trial" else trial
+    return None
+
+
+# What a desk with this plain house answers to a row: a text, or the class of the refusal.
+def plain_say(house, row):
+    deed = plain_read(row)
+    if deed is not None:
+        answer = house.do(deed)
+        return answer if type(answer) is type else plain_tuples(answer, "ok")
+    for first, kinds in ASKED.items():
+        things = plain_things(first, kinds, row)
+        if things is not None:
+            return plain_refusal(house, kinds, things) or plain_answer(house, first, things)
+    return NoRow
+
+
+def plain_answer(house, first, things):
+    if first == "text":
+        return plain_text(house)
+    if first == "example":
+        marks = plain_example(things[0])
+        return "none" if marks is None else plain_marks(marks)
+    if first == "points":
+        return str(plain_points(house, things))
+    if first == "meet":
+        return str(plain_points(house, things[:2], things[2:]))
+    answer = getattr(house, first)(*things)
+    if first == "place":
+        return str(answer)
+    if first == "owner":
+        return {None: "free", ("", ""): "held"}.get(answer) or "/".join(answer)
+    return plain_list(answer) if first in ("places", "shares") else plain_tuples(answer, "-")
+
+
+# The first marks by point 12, of all that have the rule's words with the numbers told there.
+def plain_example(rule):
+    words = sorted(measured(rule)[2])
+    numbers = [sorted(int(one) for one in re.findall(f"least {word} (-?[0-9]+)", plain_rule(rule))) for word in words]
+    tried = [[number for number in dict.fromkeys([ns[0] - 1] + ns) if number >= -BIG] if ns else [0] for ns in numbers]
+    for choice in itertools.product(*[[None] + one for one in tried]):
+        marks = tuple((word, number) for word, number in zip(words, choice) if number is not None)
+        if holds(rule, dict(marks)):
+            return marks
+    return None
+
+
+LONGEST_WORD = "abcdefghijkl"
+LONGEST_GUEST = "abcdefghijklmnopqrstuvwx"
+
+# Rules and what is written of them, by hand.
+RULE_TEXTS = (
+    (ANY, "any"),
+    (("has", "age"), "has age"),
+    (("has", "any"), "has any"),
+    (("has", LONGEST_WORD), "has abcdefghijkl"),
+    (("least", "age", 18), "least age 18"),
+    (("least", "age", 0), "least age 0"),
+    (("least", "age", -1), "least age -1"),
+    (("least", "least", 10), "least least 10"),
+    (("least", "a", BIG), "least a 1" + "0" * 30),
+    (("least", "a", -BIG), "least a -1" + "0" * 30),
+    (("least", "a", 1 - BIG), "least a -" + "9" * 30),
+    (("not", ANY), "not any"),
+    (("not", ("not", ("has", "not"))), "not not has not"),
+    (("both", ANY, ("has", "age")), "both any has age"),
+    (("both", ("has", "age"), ANY), "both has age any"),
+    (("either", ("has", "a"), ("least", "b", -3)), "either has a least b -3"),
+    (("both", ("either", ("has", "a"), ANY), ("not", ("least", "a", 7))), "both either has a any not least a 7"),
+    (("either", ANY, ("both", ANY, ("not", ("both", ANY, ("has", "x"))))), "either any both any not both any has x"),
+    (wrapped(5, lambda inner: ("not", inner), ANY), "not not not not not any"),
+)
+
+# Deeds and what is written of them, by hand: the document's own rows first.
+DEED_ROWS = (
+    (("layer", "upper", 3), "layer upper 3"),
+    (("trial", "soap", "upper", ("old", "new"), ("least", "age", 18), ("mild", "rough")),
+     "trial soap upper old,new mild,rough least age 18"),
+    (("trial", "soap", "upper", ("old", "new"), ANY, ()), "trial soap upper old,new - any"),
+    (("share", "soap", (3, 4)), "share soap 3,4"),
+    (("deal", "soap", 10, (1, 2)), "deal soap 10 1,2"),
+    (("hold", "upper", 2), "hold upper 2"),
+    (("pause", "soap"), "pause soap"),
+    (("go", "soap"), "go soap"),
+    (("close", "soap"), "close soap"),
+    (("bar", "ann7", "soap"), "bar ann7 soap"),
+    (("visit", "ann7", (("age", 20), ("size", -3))), "visit ann7 age=20,size=-3"),
+    (("visit", "ann7", ()), "visit ann7 -"),
+    (("layer", "a", 0), "layer a 0"),
+    (("layer", LONGEST_WORD, 997), "layer abcdefghijkl 997"),
+    (("layer", "layer", 10 ** 59), "layer layer 1" + "0" * 59),
+    (("trial", "a", "b", ("c",), ANY, ("d",)), "trial a b c d any"),
+    (("trial", "any", "any", ("any",), ("has", "any"), ("any",)), "trial any any any any has any"),
+    (("trial", "a", "a", ("z", "y", "x", "a"), ("both", ANY, ("least", "x", -5)), tuple("hgfedcba")),
+     "trial a a z,y,x,a h,g,f,e,d,c,b,a both any least x -5"),
+    (("share", "soap", (0,)), "share soap 0"),
+    (("share", "soap", (0, 0, 12, 997)), "share soap 0,0,12,997"),
+    (("share", "soap", (10, 5, 5)), "share soap 10,5,5"),
+    (("share", "soap", (10 ** 59,)), "share soap 1" + "0" * 59),
+    (("deal", "soap", 0, (1,)), "deal soap 0 1"),
+    (("deal", "soap", 1000, (BIG, 1, 1, BIG)), "deal soap 1000 1" + "0" * 30 + ",1,1,1" + "0" * 30),
+    (("hold", "upper", 0), "hold upper 0"),
+    (("hold", "hold", 10 ** 59), "hold hold 1" + "0" * 59),
+    (("bar", "0", "a"), "bar 0 a"),
+    (("bar", LONGEST_GUEST, LONGEST_WORD), "bar abcdefghijklmnopqrstuvwx abcdefghijkl"),
+    (("visit", "007", (("a", 0),)), "visit 007 a=0"),
+    (("visit", "go", (("b", BIG), ("a", -BIG))), "visit go b=1" + "0" * 30 + ",a=-1" + "0" * 30),
+    (("visit", LONGEST_GUEST, tuple((name, -k) for k, name in enumerate("hgfedcba"))),
+     "visit abcdefghijklmnopqrstuvwx h=0,g=-1,f=-2,e=-3,d=-4,c=-5,b=-6,a=-7"),
+)
 
 
 # With the prime 7 and the salt 0 a guest named by one sign has the sign's number

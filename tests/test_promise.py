@@ -1,11 +1,19 @@
 import random
 import unittest
+from collections import Counter
 
-from plain_house import ANY, BIG, ODD, PlainHouse, arms_told, everything, holds, place_by
+from plain_house import (
+    ANY, ASKED, BIG, ODD, PlainHouse, arms_told, everything, holds, place_by, plain_marks, plain_read, plain_row,
+    plain_rule, plain_say, plain_text, plain_tuples,
+)
 
 from layersplit.books import first_refused, house_of
-from layersplit.errors import SplitError
+from layersplit.counting import points_in, points_in_both
+from layersplit.desk import Desk
+from layersplit.errors import BadRow, NoRow, SplitError
 from layersplit.house import House
+from layersplit.reading import read_deed, read_house
+from layersplit.writing import deed_text, house_text
 
 # The rows of deeds are drawn from this seed, each with its own number behind it.
 SEED = 20261116
@@ -110,6 +118,63 @@ class Drawer:
         else:
             spoilt[place] = thing
         return spoilt if way == 2 else tuple(spoilt)
+
+
+    # A question's row, mostly of what stands, sometimes with a word too many or a sign left out.
+    def question(self, house, kinds):
+        kind = self.one_of(kinds)
+        arms = arms_told(house)
+        words = [kind]
+        trial = "a"
+        for thing in ASKED[kind]:
+            if thing == "trial":
+                trial = self.name(house.trials())
+            words.append({
+                "layer": self.name([name for name, slope in house.layers()]), "guest": self.one_of(GUESTS),
+                "place": str(self.up_to(self.prime)), "trial": trial, "arm": self.name(arms.get(trial)),
+                "marks": plain_marks(self.marks()), "rule": plain_rule(self.rule()),
+            }[thing])
+        row = " ".join(words)
+        if self.up_to(11):
+            return row
+        place = self.up_to(len(row) - 1)
+        return self.one_of((row + " a", row + " ", row[:place] + row[place + 1:], row + "\n", row.upper()))
+
+
+# The row that writes just this deed; or one that writes none, made of a deed that is none; or None.
+def row_for(deed):
+    try:
+        row = plain_row(deed)
+    except (TypeError, ValueError):
+        return None
+    read = plain_read(row)
+    if len(row) > 4000 or len(row.split(" ")) > 200 or (read is not None and repr(read) != repr(deed)):
+        return None
+    return row
+
+
+# The points with a place, by slope and place, as the bits of a number.
+def point_bits(prime):
+    bits = {(slope, place): 0 for slope in range(prime + 1) for place in range(prime)}
+    for x in range(prime):
+        for y in range(prime):
+            bit = 1 << (x * prime + y)
+            for slope in range(prime):
+                bits[(slope, (x + slope * y) % prime)] |= bit
+            bits[(prime, y)] |= bit
+    return bits
+
+
+# The points that lie in each arm, as bits.
+def arms_bits(house, bits):
+    found = {}
+    for trial, arms in arms_told(house).items():
+        slope = dict(house.layers())[house.layer_of(trial)]
+        for arm in arms:
+            found[(trial, arm)] = 0
+            for place in house.places(trial, arm):
+                found[(trial, arm)] |= bits[(slope, place)]
+    return found
 
 
 # Who is in which trial and arm: (guest, trial, arm).
@@ -225,27 +290,102 @@ class Promise(unittest.TestCase):
         self.assertEqual(now, everything(plain, GUESTS, MARKS), deed)
         return answer, now
 
+    # The fourth part, of all arms and of some pairs of them; of all pairs where none are told.
+    def check_counts(self, house, bits, chance=None):
+        arms = arms_bits(house, bits)
+        for (trial, arm), lie in arms.items():
+            self.assertEqual(points_in(house, trial, arm), lie.bit_count())
+            self.assertEqual(lie.bit_count(), len(house.places(trial, arm)) * house.prime())
+        pairs = [(first, second) for first in arms for second in arms]
+        for first, second in pairs if chance is None else chance.sample(pairs, min(8, len(pairs))):
+            both = (arms[first] & arms[second]).bit_count()
+            self.assertEqual(points_in_both(house, *first, *second), both, (first, second))
+            if house.layer_of(first[0]) != house.layer_of(second[0]):
+                self.assertEqual(both, len(house.places(*first)) * len(house.places(*second)))
+            elif first != second:
+                self.assertEqual(both, 0)
+
+    def said(self, desk, row):
+        try:
+            return desk.say(row)
+        except SplitError as error:
+            return type(error)
+
+    # The deed once more, told to the desk by its row.
+    def check_told(self, desk, deed, answer):
+        row = row_for(deed)
+        if row is None:
+            return None
+        if plain_read(row) is None:
+            answer = NoRow
+            self.assertRaises(NoRow, read_deed, row)
+        else:
+            self.assertEqual(deed_text(deed), row)
+            self.assertEqual(repr(read_deed(row)), repr(deed))
+        self.assertEqual(self.said(desk, row), plain_tuples(answer, "ok") if type(answer) is list else answer, row)
+        return row
+
     # A row of drawn deeds, with all questions asked behind each of them.
     def check_row(self, number, prime, salt, many=LONGEST):
         drawer = Drawer(number, prime)
+        asker = Drawer(500 + number, prime)
         house = House(prime, salt)
         plain = PlainHouse(prime, salt)
+        desk = Desk(prime, salt)
+        # In a great house the points are too many to be counted behind each deed.
+        bits = point_bits(prime) if prime < 200 else None
+        kinds = [kind for kind in ASKED if bits or kind not in ("points", "meet")]
         facts = {"trials": {}, "last": {}, "paused": set(), "closed": set(), "barred": set()}
         deeds = []
         answers = []
+        rows = []
         stood = everything(house, GUESTS, MARKS)
         snapshots = [stood]
         for _ in range(many):
             deed = drawer.deed(plain)
             deeds.append(deed)
             answer, now = self.check_deed(house, plain, deed, facts, stood)
+            rows.append((self.check_told(desk, deed, answer), answer))
+            for _ in range(4):
+                row = asker.question(plain, kinds)
+                self.assertEqual(self.said(desk, row), plain_say(plain, row), row)
             if type(answer) is list:
                 stood = now
                 answers.append(answer)
                 snapshots.append(now)
+                if bits:
+                    self.check_counts(house, bits, asker.chance)
+        if bits:
+            self.check_counts(house, bits)
         self.assertEqual(house.book(), plain.book())
         self.check_book(house, deeds, answers, snapshots)
+        self.check_texts(house, desk, answers, snapshots, rows)
         return house
+
+    # The text of the house, read anew, and told row by row to another desk.
+    def check_texts(self, house, desk, answers, snapshots, told):
+        text = house_text(house)
+        self.assertEqual(text, plain_text(house))
+        self.assertEqual(desk.say("text"), text)
+        self.assertLess(len(text), 40000)
+        rows = text.split("\n")
+        self.assertEqual(len(rows), len(answers) + 1)
+        for many in [*range(1, len(rows), 29), len(rows)]:
+            read = read_house("\n".join(rows[:many]))
+            self.assertEqual(everything(read, GUESTS, MARKS), snapshots[many - 1])
+            self.assertEqual(house_text(read), "\n".join(rows[:many]))
+        other = Desk(house.prime(), house.salt())
+        for row, answer in zip(rows[1:], answers):
+            self.assertEqual(other.say(row), plain_tuples(answer, "ok"))
+        self.assertEqual(other.say("text"), text)
+        # With a row that is no row, or a refused deed's, behind those ahead that were not refused.
+        told = [(row, answer) for row, answer in told if row is not None and "\n" not in row]
+        refused = [number for number, (row, answer) in enumerate(told) if type(answer) is not list]
+        for number in refused[:3] + refused[-3:]:
+            ahead = [row for row, answer in told[:number] if type(answer) is list]
+            with self.assertRaises(BadRow) as caught:
+                read_house("\n".join([rows[0]] + ahead + [row for row, answer in told[number:]]))
+            self.assertEqual(caught.exception.row, len(ahead) + 2)
 
     # The last part: of the book the same house comes again, deed by deed.
     def check_book(self, house, deeds, answers, snapshots):
@@ -276,25 +416,29 @@ class Promise(unittest.TestCase):
 
     # The rows hold what the promise speaks of: else the tests above would tell little.
     def test_what_is_drawn(self):
-        seen = {}
+        seen = Counter()
         for number in range(18):
             house = PlainHouse((2, 3, 5, 7, 11, 13)[number % 6], (0, 1, 12345678901, BIG)[number % 4])
             drawer = Drawer(number, house.prime())
+            asker = Drawer(500 + number, house.prime())
             for _ in range(LONGEST):
                 deed = drawer.deed(house)
                 answer = house.do(deed)
-                if type(answer) is not list:
-                    key = answer.__name__
-                else:
-                    key = deed[0] + (" with" if answer else " without")
-                seen[key] = seen.get(key, 0) + 1
+                seen[answer.__name__ if type(answer) is type else deed[0] + (" with" if answer else " without")] += 1
+                row = row_for(deed)
+                if row is not None:
+                    seen["no row" if plain_read(row) is None else "refused row" if type(answer) is type else "row"] += 1
+                question = asker.question(house, list(ASKED))
+                answer = plain_say(house, question)
+                seen["asked " + answer.__name__ if type(answer) is type else question.split(" ")[0]] += 1
         for key in (
             "NoDeed", "NoWord", "Taken", "Unknown", "NoArms", "NoRule", "NoShuts", "NoNumber", "NoMarks", "Closed",
             "NoRoom", "layer without", "trial without", "share without", "share with", "deal without", "deal with",
             "hold without", "pause without", "go without", "close without", "close with", "bar without", "bar with",
-            "visit without", "visit with",
+            "visit without", "visit with", "row", "refused row", "no row", "asked NoRow", "asked Unknown",
+            "asked NoNumber", *ASKED,
         ):
-            self.assertGreater(seen.get(key, 0), 5, key)
+            self.assertGreater(seen[key], 5, key)
 
 
 if __name__ == "__main__":
